@@ -1,0 +1,1 @@
+"""Chanceduel: two hands and chance on one floor, reckoned exactly."""
