@@ -34,6 +34,14 @@ BANNED_WORDS = re.compile(
     r"\b(type|typing|typing_extensions|enum|Enum|IntEnum|StrEnum|Flag|IntFlag|Generic|Protocol|ABC|ABCMeta"
     r"|namedtuple|NamedTuple|TypedDict|TYPE_CHECKING|abstractmethod)\b|dataclass|overload|contextmanager")
 BUILTINS = set(dir(builtins))
+WALKS = {"zip", "enumerate", "reversed", "range", "items", "keys", "values"}
+WALKERS = {"list", "tuple", "dict", "sorted", "sum", "any", "all", "enumerate", "zip", "min", "max"}
+KEYWORDS = {
+    "sorted": {"key", "reverse"}, "min": {"key", "default"}, "max": {"key", "default"}, "sum": {"start"},
+    "enumerate": {"start"}, "zip": {"strict"}}
+VALUE_NAMES = set("count index title find get join lower upper split strip copy add".split())
+METHOD_NAMES = OWN_METHODS | {"add", "discard"}
+TAKEN_NAMES = {name for kind in (str, int, list, tuple, dict, set, frozenset, bytes) for name in dir(kind)}
 
 
 def faults(source, own_methods=()):
@@ -43,7 +51,75 @@ def faults(source, own_methods=()):
     for node in ast.walk(tree):
         line = getattr(node, "lineno", 0)
         found += [(rule, line) for rule in node_faults(node, set(own_methods))]
+        for child in ast.iter_child_nodes(node):
+            if is_walk(child) and not walks(node, child):
+                found.append(("L23", line))
     return sorted(set(found))
+
+
+def called_name(node):
+    if not isinstance(node, ast.Call):
+        return None
+    return node.func.id if isinstance(node.func, ast.Name) else getattr(node.func, "attr", None)
+
+
+def is_walk(node):
+    return called_name(node) in WALKS
+
+
+def walks(node, child):
+    """Whether the node walks its child on the spot."""
+    if isinstance(node, (ast.For, ast.comprehension)):
+        return node.iter is child
+    name = called_name(node)
+    if name == "join":
+        return isinstance(node.func.value, ast.Constant)
+    return name in WALKERS and node.args[:1] == [child]
+
+
+def class_parts(tree):
+    """The names of methods and of values of the file's classes."""
+    methods = set()
+    values = set()
+    for kind in [node for node in ast.walk(tree) if isinstance(node, ast.ClassDef)]:
+        methods |= {part.name for part in kind.body if isinstance(part, ast.FunctionDef)}
+        values |= {node.attr for node in ast.walk(kind)
+                   if isinstance(node, ast.Attribute) and isinstance(node.ctx, ast.Store)}
+    return methods - DUNDERS, values
+
+
+def class_faults(trees):
+    """The rules that the classes of all files together break, with the name."""
+    methods = set()
+    values = set()
+    for tree in trees:
+        parts = class_parts(tree)
+        methods |= parts[0]
+        values |= parts[1]
+    found = [("L18", name) for name in methods & values]
+    found += [("L26", name) for name in (methods & TAKEN_NAMES) - METHOD_NAMES]
+    found += [("L26", name) for name in (values & TAKEN_NAMES) - VALUE_NAMES]
+    return sorted(found)
+
+
+def drawn_from(tree):
+    return [node.module for node in ast.walk(tree) if isinstance(node, ast.ImportFrom)]
+
+
+def in_a_ring(draws):
+    """The files that draw from themselves, in whatever many steps."""
+    found = []
+    for name in draws:
+        reached = []
+        ahead = list(draws[name])
+        while ahead:
+            step = ahead.pop()
+            if step not in reached:
+                reached.append(step)
+                ahead += draws.get(step, [])
+        if name in reached:
+            found.append(name)
+    return found
 
 
 def text_faults(source):
@@ -101,6 +177,10 @@ def node_faults(node, own_methods):
         found.append("L7")
     for check in (import_faults, def_faults, statement_faults, expression_faults, name_faults):
         found += check(node)
+    if isinstance(node, ast.Call):
+        allowed = KEYWORDS.get(called_name(node), set()) if called_name(node) in OWN_NAMES | OWN_METHODS else None
+        if allowed is not None and {keyword.arg for keyword in node.keywords} - allowed:
+            found.append("L22")
     if isinstance(node, ast.Call) and isinstance(node.func, ast.Attribute):
         if node.func.attr not in OWN_METHODS | own_methods | {"__init__"}:
             found.append("L25")
@@ -225,8 +305,29 @@ class Package(unittest.TestCase):
                         with self.subTest(path=path.name, name=entry.name):
                             self.assertIn(entry.name, defined)
 
+    def test_classes_of_all_files(self):
+        trees = [ast.parse(path.read_text("ascii")) for path in sorted(PACKAGE.rglob("*.py"))]
+        self.assertEqual(class_faults(trees), [])
+
+    def test_no_files_draw_from_one_another(self):
+        draws = {"chanceduel." + path.stem: drawn_from(ast.parse(path.read_text("ascii")))
+                 for path in PACKAGE.rglob("*.py")}
+        self.assertEqual(in_a_ring(draws), [])
+
 
 class BrokenRules(unittest.TestCase):
+    def test_classes(self):
+        one = "class A:\n    def share(self):\n        return 1\n"
+        other = "class B:\n    def __init__(self):\n        self.share = 1\n"
+        self.assertEqual(class_faults([ast.parse(one)]), [])
+        self.assertEqual(class_faults([ast.parse(one), ast.parse(other)]), [("L18", "share")])
+        self.assertEqual(class_faults([ast.parse(one.replace("share", "title"))]), [("L26", "title")])
+        self.assertEqual(class_faults([ast.parse(other.replace("share", "items"))]), [("L26", "items")])
+
+    def test_rings(self):
+        self.assertEqual(in_a_ring({"a": ["b", "c"], "b": ["c"], "c": []}), [])
+        self.assertEqual(in_a_ring({"a": ["b"], "b": ["c"], "c": ["a"], "d": ["a"]}), ["a", "b", "c"])
+
     def test_each_is_seen(self):
         for rule, source in (
                 ("L2", "from math import gcd\n"), ("L2", "from .errors import NoText\n"), ("L6", "import math\n"),
@@ -241,6 +342,9 @@ class BrokenRules(unittest.TestCase):
                 ("L15", "def f(id):\n    return id\n"), ("L17", "# the type of it\n"),
                 ("L17", "def f(x):\n    return getattr(x, 'y')\n"), ("L19", "def f(e):\n    raise e\n"),
                 ("L20", "def f(x, y):\n    return x is y\n"), ("L25", "def f(x):\n    return x.sort()\n"),
+                ("L22", "def f(x):\n    return int(x, base=3)\n"), ("L22", "def f(x):\n    return x.split(maxsplit=2)\n"),
+                ("L23", "def f(x):\n    y = zip(x, x)\n    return y\n"), ("L23", "def f(x):\n    return x.items()\n"),
+                ("L23", "def f(x):\n    return len(range(x))\n"),
                 ("L27", "A = '%d'\n"), ("L27", "A = '\\x41'\n")):
             with self.subTest(rule=rule, source=source):
                 self.assertIn(rule, [found for found, line in faults(source)])
