@@ -147,6 +147,7 @@ class RefusedFloors(unittest.TestCase):
             with self.subTest(fault=fault, row=row):
                 self.assert_no_floor((1, 1), [row])
                 self.assert_no_floor((-1, 2), [row])
+                self.assert_no_floor((3, 2), [row])
                 self.assert_no_floor((1, 1001), [GOOD_END, row])
                 self.assert_no_floor(HALF, [row] * 13)
                 self.assert_no_floor(HALF, [GOOD_END] * 12 + [row])
