@@ -1,7 +1,12 @@
-"""Floors that the tests of floors and of their texts both look at."""
+"""What several tests share: floors, plans, and the document's words of them with Python's own fractions."""
 
+from fractions import Fraction
+from itertools import product
 from math import gcd
 from random import Random
+
+from chanceduel.errors import DuelError, NoPlan
+from chanceduel.floors import Floor
 
 NOUGHT = (0, 1)
 ONE = (1, 1)
@@ -94,3 +99,174 @@ def any_floors(seed, many):
 
 def all_floors():
     return [example()] + named_edges() + any_floors(6, 60)
+
+
+def small_row(source, size):
+    kind = source.choice(["one", "other", "one", "other", "chance", "end"])
+    if kind == "end":
+        return (kind, (source.randrange(-4, 5), 1))
+    pays = source.choices([NOUGHT, NOUGHT, ONE, (-1, 1), (1, 2), (3, 1), (-5, 2)], k=source.randrange(1, 4))
+    doors = [(source.randrange(size), pay) for pay in pays]
+    if kind == "chance":
+        doors = [door + ((1, len(doors)),) for door in doors]
+    return (kind, doors)
+
+
+def small_floors(seed, many):
+    """Floors with few places, doors and pays: so all plans can be looked at, and doors often show the same."""
+    source = Random(seed)
+    told = []
+    for number in range(many):
+        size = 1 + number % 5
+        share = source.choice([NOUGHT, (1, 2), (2, 3), (9, 10), (999, 1000)])
+        told.append((share, [small_row(source, size) for _ in range(size)]))
+    return told
+
+
+def hard_row(source, kind, place):
+    """Six doors, the first one to the place itself, with pays as great and as fine as may be."""
+    bottoms = source.sample([999983, 999979, 999961, 999959, 999953, 999931, 10 ** 6], 6)
+    tops = [source.choice([-1, 1]) * (10 ** 30 - source.randrange(1, 1000)) for _ in bottoms]
+    pays = [(top // gcd(top, bottom), bottom // gcd(top, bottom)) for top, bottom in zip(tops, bottoms)]
+    if kind == "end":
+        return (kind, pays[0])
+    doors = [(place if door == 0 else source.randrange(12), pay) for door, pay in enumerate(pays)]
+    if kind == "chance":
+        doors = [door + (chance,) for door, chance in zip(doors, any_chances(source, 6))]
+    return (kind, doors)
+
+
+def hard_floors(seed, many):
+    """Floors of twelve places of all four kinds, with the greatest share and pays."""
+    source = Random(seed)
+    told = []
+    for _ in range(many):
+        kinds = ["one", "other", "chance"] * 3 + ["one", "other", "end"]
+        source.shuffle(kinds)
+        told.append(((999, 1000), [hard_row(source, kind, place) for place, kind in enumerate(kinds)]))
+    return told
+
+
+def hand_floors(seed, many):
+    """Floors of eight places of both hands and of chance, whose plans want several rounds of mending."""
+    source = Random(seed)
+    told = []
+    for _ in range(many):
+        rows = []
+        for kind in source.choices(["one", "other", "chance"], k=8):
+            doors = [(source.randrange(8), (source.randrange(-3, 4), 1)) for _ in range(4)]
+            rows.append((kind, [door + ((1, 4),) for door in doors] if kind == "chance" else doors))
+        told.append((source.choice([(9, 10), (99, 100)]), rows))
+    return told
+
+
+def floors_for_plans():
+    return all_floors() + small_floors(12, 60) + hard_floors(13, 4) + hand_floors(14, 12)
+
+
+def plain(one):
+    return (one.numerator, one.denominator)
+
+
+def is_table(told, size):
+    """Whether this is a list of so many fractions in lowest terms."""
+    return type(told) is list and len(told) == size and all(
+        type(one) is tuple and [type(part) for part in one] == [int, int] and one[1] >= 1 and gcd(*one) == 1
+        for one in told)
+
+
+def doors_show(share, row, table):
+    """What the doors of a row show by a table."""
+    doors = [] if row[0] == "end" else row[1]
+    return [Fraction(*door[1]) + Fraction(*share) * Fraction(*table[door[0]]) for door in doors]
+
+
+def row_looks(share, row, table):
+    """The look of a row's place by a table."""
+    if row[0] == "end":
+        return Fraction(*row[1])
+    shown = doors_show(share, row, table)
+    if row[0] == "chance":
+        return sum(Fraction(*door[2]) * number for door, number in zip(row[1], shown))
+    return (max if row[0] == "one" else min)(shown)
+
+
+def told_by(share, rows, doors, table):
+    """What each place has by the table: what its door shows where doors has one, else its look."""
+    return [plain(doors_show(share, row, table)[doors[place]] if place in doors else row_looks(share, row, table))
+            for place, row in enumerate(rows)]
+
+
+def doors_of_hand(rows, hand):
+    """The number of doors of each of the hand's places."""
+    return {place: len(row[1]) for place, row in enumerate(rows) if row[0] == hand}
+
+
+def opposite(hand):
+    return {"one": "other", "other": "one"}[hand]
+
+
+def all_plans(rows, hand):
+    counts = doors_of_hand(rows, hand)
+    return [dict(zip(counts, doors)) for doors in product(*[range(many) for many in counts.values()])]
+
+
+def any_plan(source, rows, hand):
+    return {place: source.randrange(many) for place, many in doors_of_hand(rows, hand).items()}
+
+
+def is_plan(told, rows, hand):
+    """Whether this is a plan of the hand with just the hand's places."""
+    counts = doors_of_hand(rows, hand)
+    return type(told) is dict and set(told) == set(counts) and all(
+        type(door) is int and 0 <= door < counts[place] for place, door in told.items())
+
+
+def with_more(plan, rows, hand):
+    """The plan with wrong doors at places that aren't the hand's, on the floor and off it."""
+    more = {place: 99 for place in range(-3, len(rows) + 3) if place not in doors_of_hand(rows, hand)}
+    return {10 ** 40: -1, **more, **plan, -10 ** 40: 10 ** 40}
+
+
+def without(plan, place):
+    return {other: door for other, door in plan.items() if other != place}
+
+
+def wrong_plans(rows, hand):
+    """Plans with one fault, as tuples (the place of the fault, plan)."""
+    told = []
+    for place, many in doors_of_hand(rows, hand).items():
+        plan = {other: 0 for other in doors_of_hand(rows, hand)}
+        told.append((place, without(plan, place)))
+        told += [(place, {**plan, place: door}) for door in (-1, -many, many, many + 1, 10 ** 40, -10 ** 40)]
+    return told
+
+
+def plans_at_fault(rows, hand):
+    """Plans with one fault or several, as tuples (the least place of a fault, plan)."""
+    singles = wrong_plans(rows, hand)
+    told = list(singles)
+    for place, plan in singles:
+        for other in plan:
+            if other != place:
+                told += [(min(place, other), {**plan, other: -1}), (min(place, other), without(plan, other))]
+    if singles:
+        told.append((singles[0][0], {}))
+        told.append((singles[0][0], {len(rows): 0, -1: 0}))
+    return told
+
+
+def assert_plans_refused(case, floors, ask):
+    """Holds ask(floor, hand, plan) to refusing each plan at fault with its least place, and leaving it as it was."""
+    for share, rows in floors:
+        floor = Floor(share, rows)
+        for hand in ("one", "other"):
+            for place, plan in plans_at_fault(rows, hand):
+                for handed in (plan, with_more(plan, rows, hand)):
+                    kept = dict(handed)
+                    with case.subTest(rows=rows, hand=hand, plan=handed):
+                        with case.assertRaises(NoPlan) as taken:
+                            ask(floor, hand, handed)
+                        case.assertEqual(taken.exception.place, place)
+                        case.assertEqual(type(taken.exception).__bases__, (DuelError,))
+                        case.assertEqual(handed, kept)

@@ -7,8 +7,8 @@ from random import Random
 from chanceduel.errors import NoFloor, NoPlace
 from chanceduel.floors import Floor, turned
 from helper import (
-    FINEST_PAY, LEAST_FINEST_PAY, LEAST_PAY, MOST_PAY, NOUGHT, ONE, all_floors, any_floors, any_pay, example,
-    hand_ring, named_edges)
+    FINEST_PAY, LEAST_FINEST_PAY, LEAST_PAY, MOST_PAY, NOUGHT, ONE, all_floors, any_floors, any_pay, doors_show,
+    example, hand_ring, named_edges, plain, row_looks)
 
 HALF = (1, 2)
 GOOD_END = ("end", ONE)
@@ -68,10 +68,6 @@ def table_of(seed, size):
 def small_table(seed, size):
     source = Random(seed)
     return [(source.randrange(-1, 2), 1) for _ in range(size)]
-
-
-def plain(one):
-    return (one.numerator, one.denominator)
 
 
 class Case(unittest.TestCase):
@@ -294,16 +290,10 @@ class Looks(unittest.TestCase):
     def assert_looks(self, floor, rows, table):
         for place, row in enumerate(rows):
             kind = row[0]
-            doors = [] if kind == "end" else row[1]
-            shown = [Fraction(*door[1]) + Fraction(*floor.share()) * Fraction(*table[door[0]]) for door in doors]
-            told = [floor.shown(place, door, table) for door in range(len(doors))]
+            shown = doors_show(floor.share(), row, table)
+            told = [floor.shown(place, door, table) for door in range(len(shown))]
             self.assertEqual(told, [plain(number) for number in shown])
-            if kind == "end":
-                look = Fraction(*row[1])
-            elif kind == "chance":
-                look = sum(Fraction(*door[2]) * number for door, number in zip(doors, shown))
-            else:
-                look = (max if kind == "one" else min)(shown)
+            look = row_looks(floor.share(), row, table)
             self.assertEqual(floor.look(place, table), plain(look))
             best = [door for door, number in enumerate(shown) if number == look and kind != "chance"]
             self.assertEqual(floor.best(place, table), best)
