@@ -60,18 +60,22 @@ def whole_row(numbers):
     return [number[0] * (bottom // number[1]) for number in numbers]
 
 
-# The unknowns are the worths of the places; the row says that the place's own
-# worth, less the share of those where it leads, is what is paid on the way.
-def row_of(floor, place, doors):
+# The unknowns are the numbers of the places; the row says that the place's own
+# number, less the share of those where its ways lead, is what is given.
+def led_row(floor, place, ways, share, given):
     numbers = [(0, 1)] * floor.size()
     numbers[place] = (1, 1)
-    if floor.kind(place) == "end":
-        return whole_row(numbers + [floor.pay(place)])
-    ways = ways_from(floor, place, doors)
     for way in ways:
-        numbers[way[0]] = minus(numbers[way[0]], times(floor.share(), way[2]))
+        numbers[way[0]] = minus(numbers[way[0]], times(share, way[2]))
+    return whole_row(numbers + [given])
+
+
+def row_of(floor, place, doors):
+    if floor.kind(place) == "end":
+        return led_row(floor, place, [], floor.share(), floor.pay(place))
+    ways = ways_from(floor, place, doors)
     paid = weighed([way[2] for way in ways], [way[1] for way in ways])
-    return whole_row(numbers + [paid])
+    return led_row(floor, place, ways, floor.share(), paid)
 
 
 def worths_by(floor, doors):

@@ -1,15 +1,17 @@
 """What several tests share: floors, plans, and the document's words of them with Python's own fractions."""
 
+from copy import deepcopy
 from fractions import Fraction
-from itertools import product
+from itertools import combinations, product
 from math import gcd
 from random import Random
 
-from chanceduel.errors import DuelError, NoPlan
+from chanceduel.errors import DuelError, NoGoal, NoPlan
 from chanceduel.floors import Floor
 
 NOUGHT = (0, 1)
 ONE = (1, 1)
+HALF = (1, 2)
 MOST_PAY = (10 ** 30, 1)
 LEAST_PAY = (-10 ** 30, 1)
 FINEST_PAY = (10 ** 30 - 1, 10 ** 6)
@@ -160,6 +162,42 @@ def hand_floors(seed, many):
     return told
 
 
+def split_doors(source, doors, kind):
+    """The same doors in another form: in another order, a hand's perhaps twice, chance's perhaps in two parts."""
+    told = list(doors)
+    if len(told) < 6 and source.randrange(3) > 0:
+        more = told.pop(source.randrange(len(told)))
+        if kind == "chance":
+            part = plain(Fraction(*more[2]) / source.choice([2, 3]))
+            rest = plain(Fraction(*more[2]) - Fraction(*part))
+            told += [more[:2] + (part,), more[:2] + (rest,)]
+        else:
+            told += [more, more]
+    source.shuffle(told)
+    return told
+
+
+def doubled(source, rows):
+    """The rows with several copies of each, in any order, whose doors lead to any copies."""
+    copies = list(range(len(rows)))
+    copies += source.choices(copies, k=source.randrange(13 - len(rows)))
+    source.shuffle(copies)
+    told = []
+    for place in copies:
+        kind, doors = rows[place]
+        if kind != "end":
+            doors = [(source.choice([at for at, other in enumerate(copies) if other == door[0]]),) + door[1:]
+                     for door in split_doors(source, doors, kind)]
+        told.append((kind, doors))
+    return told
+
+
+def doubled_floors(seed, many):
+    """Floors of at most twelve places, many of which are alike."""
+    source = Random(seed)
+    return [(share, doubled(source, rows)) for share, rows in small_floors(seed, many)]
+
+
 def floors_for_plans():
     return all_floors() + small_floors(12, 60) + hard_floors(13, 4) + hand_floors(14, 12)
 
@@ -270,3 +308,128 @@ def assert_plans_refused(case, floors, ask):
                         case.assertEqual(taken.exception.place, place)
                         case.assertEqual(type(taken.exception).__bases__, (DuelError,))
                         case.assertEqual(handed, kept)
+
+
+def to(*places):
+    return [(place, NOUGHT) for place in places]
+
+
+def chance_to(*places):
+    return [(place, NOUGHT, (1, len(places))) for place in places]
+
+
+def bare(rows):
+    """The rows with pays of nought."""
+    return [(row[0], NOUGHT if row[0] == "end" else [(door[0], NOUGHT) + door[2:] for door in row[1]])
+            for row in rows]
+
+
+def ends_of(rows):
+    return [place for place, row in enumerate(rows) if row[0] == "end"]
+
+
+def all_goals(rows):
+    ends = ends_of(rows)
+    return [list(goals) for many in range(len(ends) + 1) for goals in combinations(ends, many)]
+
+
+def leads_below(row, steps, bound):
+    """Whether some door, or every one at the other's place, leads to a place with fewer steps than the bound."""
+    below = [steps[door[0]] is not None and steps[door[0]] < bound for door in row[1]]
+    return all(below) if row[0] == "other" else any(below)
+
+
+class GoalCases:
+    """What is refused of goals, and that nothing changes, for a test with ask(floor, goals) and floors()."""
+
+    ROWS = [("end", ONE), ("one", to(0)), ("end", ONE), ("end", NOUGHT), ("other", to(2)), ("chance", chance_to(3, 0)),
+            ("end", ONE)]
+
+    def assert_no_goal(self, place, goals):
+        kept = list(goals)
+        with self.subTest(goals=goals):
+            with self.assertRaises(NoGoal) as taken:
+                self.ask(Floor(HALF, self.ROWS), goals)
+            self.assertEqual(taken.exception.place, place)
+            self.assertEqual(type(taken.exception).__bases__, (DuelError,))
+            self.assertEqual(goals, kept)
+
+    def test_no_ends(self):
+        for place in (1, 4, 5):
+            self.assert_no_goal(place, [place])
+            self.assert_no_goal(place, [0, place])
+            self.assert_no_goal(place, [place, 6])
+
+    def test_off_the_floor(self):
+        for place in (-1, -2, -5, -6, -7, -8, -10 ** 40, 7, 8, 12, 10 ** 40, 10 ** 900, -10 ** 900):
+            self.assert_no_goal(place, [place])
+            self.assert_no_goal(place, [0, 2, place])
+            self.assert_no_goal(place, [place, 0])
+            self.assert_no_goal(place, [0, place, 6])
+
+    def test_not_rising(self):
+        self.assert_no_goal(0, [2, 0])
+        self.assert_no_goal(2, [0, 3, 2])
+        self.assert_no_goal(3, [0, 2, 6, 3])
+        self.assert_no_goal(0, [3, 0, 6, 2])
+
+    def test_twice_the_same(self):
+        for place in (0, 2, 3, 6):
+            self.assert_no_goal(place, [place, place])
+        self.assert_no_goal(2, [0, 2, 2, 3])
+        self.assert_no_goal(6, [0, 2, 3, 6, 6])
+
+    def test_the_first_of_several(self):
+        self.assert_no_goal(4, [0, 4, 2, 2, 99])
+        self.assert_no_goal(2, [0, 3, 2, 99, 1])
+        self.assert_no_goal(99, [0, 99, 3, 3, -1])
+        self.assert_no_goal(-1, [0, -1, 99])
+        self.assert_no_goal(5, [5, 4, 1])
+        self.assert_no_goal(0, [2, 0, 0, 1])
+
+    def test_any_lists_by_lot(self):
+        source = Random(53)
+        refused = 0
+        for _ in range(2000):
+            goals = [source.randrange(-2, 9) for _ in range(source.randrange(5))]
+            wrong = [goal for number, goal in enumerate(goals)
+                     if goal not in (0, 2, 3, 6) or number > 0 and goal <= goals[number - 1]]
+            if wrong:
+                refused = refused + 1
+                self.assert_no_goal(wrong[0], goals)
+            else:
+                self.ask(Floor(HALF, self.ROWS), goals)
+        self.assertGreater(refused, 1000)
+        self.assertLess(refused, 2000)
+
+    def test_without_any_end(self):
+        for goals in ([0], [-1], [11], [12], [3, 3]):
+            with self.assertRaises(NoGoal) as taken:
+                self.ask(Floor(HALF, hand_ring(12)), goals)
+            self.assertEqual(taken.exception.place, goals[0])
+
+    def test_what_was_handed_in_stays(self):
+        for share, rows in self.floors():
+            floor = Floor(share, rows)
+            goals = ends_of(rows)
+            kept = list(goals)
+            told = self.ask(floor, goals)
+            kept_told = deepcopy(told)
+            self.assertEqual(goals, kept)
+            self.assertEqual((floor.share(), floor.rows()), (share, rows))
+            goals.append(99)
+            self.assertEqual(told, kept_told)
+
+    def test_what_was_told_is_changed(self):
+        for share, rows in self.floors():
+            floor = Floor(share, rows)
+            for goals in (ends_of(rows), ends_of(rows)[:1], []):
+                told = self.ask(floor, goals)
+                kept = deepcopy(told)
+                other_told = self.ask(floor, goals)
+                for number, part in enumerate(told):
+                    part.clear()
+                    self.assertEqual(told[number + 1:], kept[number + 1:])
+                    self.assertFalse(any(told[:number]))
+                self.assertEqual(other_told, kept)
+                self.assertEqual(self.ask(floor, goals), kept)

@@ -7,10 +7,9 @@ from random import Random
 from chanceduel.errors import NoFloor, NoPlace
 from chanceduel.floors import Floor, turned
 from helper import (
-    FINEST_PAY, LEAST_FINEST_PAY, LEAST_PAY, MOST_PAY, NOUGHT, ONE, all_floors, any_floors, any_pay, doors_show,
+    FINEST_PAY, HALF, LEAST_FINEST_PAY, LEAST_PAY, MOST_PAY, NOUGHT, ONE, all_floors, any_floors, any_pay, doors_show,
     example, hand_ring, named_edges, plain, row_looks)
 
-HALF = (1, 2)
 GOOD_END = ("end", ONE)
 WRONG_SHARES = ((-1, 2), (-1, 1), (-1, 1000), (1, 1), (3, 2), (1001, 1000), (2, 1), (1, 1001), (1000, 1001), (500, 1001))
 

@@ -1,37 +1,10 @@
-import copy
 import unittest
-from itertools import combinations
-from random import Random
 
-from chanceduel.errors import DuelError, NoGoal
 from chanceduel.floors import Floor
 from chanceduel.shuts import draw
-from helper import NOUGHT, ONE, all_floors, all_plans, any_floors, floors_for_plans, hand_ring, small_floors
-
-HALF = (1, 2)
-
-
-def to(*places):
-    return [(place, NOUGHT) for place in places]
-
-
-def chance_to(*places):
-    return [(place, NOUGHT, (1, len(places))) for place in places]
-
-
-def ends_of(rows):
-    return [place for place, row in enumerate(rows) if row[0] == "end"]
-
-
-def all_goals(rows):
-    ends = ends_of(rows)
-    return [list(goals) for many in range(len(ends) + 1) for goals in combinations(ends, many)]
-
-
-def leads_below(row, steps, bound):
-    """Whether some door, or every one at the other's place, leads to a place with fewer steps than the bound."""
-    below = [steps[door[0]] is not None and steps[door[0]] < bound for door in row[1]]
-    return all(below) if row[0] == "other" else any(below)
+from helper import (
+    HALF, NOUGHT, ONE, GoalCases, all_floors, all_goals, all_plans, any_floors, bare, chance_to, ends_of,
+    floors_for_plans, leads_below, small_floors, to)
 
 
 def reached_from(rows, place, plan_other):
@@ -119,10 +92,8 @@ class Draws(Case):
 
     def test_pays_and_the_share_do_not_count(self):
         for share, rows in all_floors():
-            bare = [(row[0], NOUGHT if row[0] == "end" else [(door[0], NOUGHT) + door[2:] for door in row[1]])
-                    for row in rows]
             for goals in all_goals(rows)[:8]:
-                self.assertEqual(draw(Floor(share, rows), goals), draw(Floor(NOUGHT, bare), goals))
+                self.assertEqual(draw(Floor(share, rows), goals), draw(Floor(NOUGHT, bare(rows)), goals))
 
     def test_against_the_words(self):
         for share, rows in floors_for_plans() + any_floors(50, 100) + small_floors(51, 100):
@@ -142,100 +113,12 @@ class Draws(Case):
                         self.assertEqual(place in shut, kept_away)
 
 
-class RefusedGoals(unittest.TestCase):
-    ROWS = [("end", ONE), ("one", to(0)), ("end", ONE), ("end", NOUGHT), ("other", to(2)), ("chance", chance_to(3, 0)),
-            ("end", ONE)]
+class Goals(GoalCases, unittest.TestCase):
+    def ask(self, floor, goals):
+        return draw(floor, goals)
 
-    def assert_no_goal(self, place, goals):
-        kept = list(goals)
-        with self.subTest(goals=goals):
-            with self.assertRaises(NoGoal) as taken:
-                draw(Floor(HALF, self.ROWS), goals)
-            self.assertEqual(taken.exception.place, place)
-            self.assertEqual(type(taken.exception).__bases__, (DuelError,))
-            self.assertEqual(goals, kept)
-
-    def test_no_ends(self):
-        for place in (1, 4, 5):
-            self.assert_no_goal(place, [place])
-            self.assert_no_goal(place, [0, place])
-            self.assert_no_goal(place, [place, 6])
-
-    def test_off_the_floor(self):
-        for place in (-1, -2, -5, -6, -7, -8, -10 ** 40, 7, 8, 12, 10 ** 40, 10 ** 900, -10 ** 900):
-            self.assert_no_goal(place, [place])
-            self.assert_no_goal(place, [0, 2, place])
-            self.assert_no_goal(place, [place, 0])
-            self.assert_no_goal(place, [0, place, 6])
-
-    def test_not_rising(self):
-        self.assert_no_goal(0, [2, 0])
-        self.assert_no_goal(2, [0, 3, 2])
-        self.assert_no_goal(3, [0, 2, 6, 3])
-        self.assert_no_goal(0, [3, 0, 6, 2])
-
-    def test_twice_the_same(self):
-        for place in (0, 2, 3, 6):
-            self.assert_no_goal(place, [place, place])
-        self.assert_no_goal(2, [0, 2, 2, 3])
-        self.assert_no_goal(6, [0, 2, 3, 6, 6])
-
-    def test_the_first_of_several(self):
-        self.assert_no_goal(4, [0, 4, 2, 2, 99])
-        self.assert_no_goal(2, [0, 3, 2, 99, 1])
-        self.assert_no_goal(99, [0, 99, 3, 3, -1])
-        self.assert_no_goal(-1, [0, -1, 99])
-        self.assert_no_goal(5, [5, 4, 1])
-        self.assert_no_goal(0, [2, 0, 0, 1])
-
-    def test_any_lists_by_lot(self):
-        source = Random(53)
-        refused = 0
-        for _ in range(2000):
-            goals = [source.randrange(-2, 9) for _ in range(source.randrange(5))]
-            wrong = [goal for number, goal in enumerate(goals)
-                     if goal not in (0, 2, 3, 6) or number > 0 and goal <= goals[number - 1]]
-            if wrong:
-                refused = refused + 1
-                self.assert_no_goal(wrong[0], goals)
-            else:
-                draw(Floor(HALF, self.ROWS), goals)
-        self.assertGreater(refused, 1000)
-        self.assertLess(refused, 2000)
-
-    def test_without_any_end(self):
-        for goals in ([0], [-1], [11], [12], [3, 3]):
-            with self.assertRaises(NoGoal) as taken:
-                draw(Floor(HALF, hand_ring(12)), goals)
-            self.assertEqual(taken.exception.place, goals[0])
-
-
-class NothingChanges(Case):
-    def test_what_was_handed_in_stays(self):
-        for share, rows in all_floors():
-            floor = Floor(share, rows)
-            goals = ends_of(rows)
-            kept = list(goals)
-            told = draw(floor, goals)
-            kept_told = copy.deepcopy(told)
-            self.assertEqual(goals, kept)
-            self.assertEqual((floor.share(), floor.rows()), (share, rows))
-            goals.append(99)
-            self.assertEqual(told, kept_told)
-
-    def test_what_was_told_is_changed(self):
-        for share, rows in all_floors():
-            floor = Floor(share, rows)
-            for goals in (ends_of(rows), ends_of(rows)[:1], []):
-                told = draw(floor, goals)
-                kept = copy.deepcopy(told)
-                other_told = draw(floor, goals)
-                told[0].append("more")
-                self.assertEqual(told[1], kept[1])
-                told[1].clear()
-                self.assertEqual(told[0], kept[0] + ["more"])
-                self.assertEqual(other_told, kept)
-                self.assertEqual(draw(floor, goals), kept)
+    def floors(self):
+        return all_floors()
 
 
 if __name__ == "__main__":
